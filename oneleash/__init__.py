@@ -1,0 +1,1 @@
+"""Oneleash: two walks on one leash."""
