@@ -38,8 +38,6 @@ def root_order(one, other):
 
 
 def floor_root(number):
-    if number == 0:
-        return 0
     # Newton's steps come down from above and never fall below the floor of the root.
     guess = 1 << ((number.bit_length() + 1) // 2)
     while guess * guess > number:

@@ -68,3 +68,51 @@ def told(number):
     """A Fraction as the program tells it."""
     number = Fraction(number)
     return (number.numerator, number.denominator)
+
+
+TOP = 10 ** 12 - 1
+
+LINES = [
+    [(0, 0)],
+    [(TOP, -TOP)],
+    [(3, 4), (3, 4)],
+    [(0, 0), (4, 0)],
+    [(0, 0), (4, 0), (4, 3)],
+    [(1, 5), (1, 5), (-2, 7), (-2, 7), (-2, 7)],
+    [(-TOP, -TOP), (TOP, TOP), (-TOP, TOP), (TOP, -TOP)],
+    [(0, 0), (7, 1), (-3, 2), (7, 1), (0, 0), (5, -5)],
+    [(k * k - 9, 11 - 3 * k) for k in range(10)],
+]
+
+
+def stretch_point(line, place):
+    """The point of a place, by Python's own fractions."""
+    place = fraction(place)
+    number = min(int(place), max(len(line) - 2, 0))
+    end = line[min(number + 1, len(line) - 1)]
+    part = place - number
+    return tuple(a + part * (b - a) for a, b in zip(line[number], end))
+
+
+def square_at(one, x, other, y):
+    a, b = stretch_point(one, x), stretch_point(other, y)
+    return (a[0] - b[0]) ** 2 + (a[1] - b[1]) ** 2
+
+
+def places_of(line):
+    """Places at corners, amid stretches, and very near to corners."""
+    last = len(line) - 1
+    fine = 10 ** 108
+    some = [Fraction(k) for k in range(last + 1)]
+    for k in range(last):
+        some += [k + Fraction(1, 2), k + Fraction(1, 3), k + Fraction(5, 7), k + Fraction(1, fine),
+                 k + 1 - Fraction(1, fine)]
+    return [told(place) for place in sorted(some)]
+
+
+def things_no_place(line):
+    """Of every kind, no one of them a place on the line."""
+    last = len(line) - 1
+    fine = 10 ** 108
+    return things_no_ratio() + [(-1, 1), (-1, 2), (-1, fine), (last + 1, 1), (last * fine + 1, fine),
+                                (2 * last + 1, 2), (2 * last, 2), (3 * last, 3), (-last - 1, 1), (10 ** 110, 1)]

@@ -7,6 +7,7 @@ from math import isqrt
 
 from samples import fraction, told
 
+from oneleash.errors import NoRatio
 from oneleash.ratios import is_ratio
 from oneleash.roots import root_between, root_order
 
@@ -193,6 +194,12 @@ class Between(unittest.TestCase):
         for one, other in near_pairs():
             self.check(one, other)
             self.check((-other[0], -other[1], other[2], other[3]), (-one[0], -one[1], one[2], one[3]))
+
+    def test_no_fraction_is_made_up_where_none_is_asked_for(self):
+        for one, other in (((2, 0, 0, 1), (1, 0, 0, 1)), ((0, 1, 3, 1), (0, 1, 2, 1)), ((0, 1, 2, 1), (0, 1, 8, 2)),
+                           ((1, -1, 5, 2), (1, -1, 5, 2))):
+            with self.assertRaises(NoRatio):
+                root_between(one, other)
 
     def test_the_fraction_itself_where_both_are_one(self):
         chance = random.Random(9)
