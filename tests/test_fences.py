@@ -13,10 +13,6 @@ from oneleash.fences import fence_square, is_fence
 from oneleash.walks import is_walk, walk_square
 
 
-def fence_of(*pairs):
-    return [pair(Fraction(x), Fraction(y)) for x, y in pairs]
-
-
 def whole(number):
     return number.denominator == 1
 
@@ -135,6 +131,8 @@ def chance_walk(chance, one, other, way, spots):
             break
     return [pair(a, b) for a, b in walk]
 
+
+fence_of = walk_of
 
 ONE = [(0, 0), (4, 0), (8, 0)]
 OTHER = [(0, 3), (4, 3), (4, 6), (8, 3)]

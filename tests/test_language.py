@@ -23,6 +23,8 @@ WORDS_LEFT_OUT = re.compile(r"\b(type|typing|typing_extensions|enum|Enum|IntEnum
                             r"|ABC|ABCMeta|namedtuple|NamedTuple|TypedDict|TYPE_CHECKING|abstractmethod)\b"
                             r"|dataclass|overload|contextmanager")
 NAMES_LEFT_OUT = set("register mro elements open input version_info with_traceback add_note".split())
+WALKED_AT_ONCE = set("zip enumerate reversed range items keys values".split())
+WALKS_AT_ONCE = set("list tuple dict sorted sum any all enumerate zip min max join".split())
 PLAIN_NAME = re.compile(r"[A-Za-z][A-Za-z0-9_]*\Z")
 
 
@@ -39,6 +41,22 @@ def bound_names(tree):
             yield node.arg
         elif isinstance(node, ast.Name) and isinstance(node.ctx, ast.Store):
             yield node.id
+
+
+def called_name(node):
+    """The name that a call calls, or None of other things."""
+    if not isinstance(node, ast.Call):
+        return None
+    return node.func.attr if isinstance(node.func, ast.Attribute) else node.func.id
+
+
+def walked_on_the_spot(tree):
+    """What stands behind the `in` of a loop, or first in a call that walks it."""
+    for node in ast.walk(tree):
+        if isinstance(node, (ast.For, ast.comprehension)):
+            yield node.iter
+        if called_name(node) in WALKS_AT_ONCE:
+            yield from node.args if called_name(node) == "zip" else node.args[:1]
 
 
 def imported_names(tree):
@@ -117,6 +135,19 @@ class Language(unittest.TestCase):
                     self.assertIn(node.id, known)
                 if isinstance(node, ast.Attribute):
                     self.assertIn(node.attr, OWN_METHODS)
+
+    def test_what_is_walked_at_once_is_not_kept(self):
+        for path, text in self.each():
+            tree = ast.parse(text)
+            walked = [id(node) for node in walked_on_the_spot(tree)]
+            for node in ast.walk(tree):
+                if called_name(node) in WALKED_AT_ONCE:
+                    self.assertIn(id(node), walked, f"{path.name}:{node.lineno}")
+
+    def test_one_name_stands_on_the_left_of_an_assignment(self):
+        for where, node in self.each_node():
+            if isinstance(node, ast.Assign):
+                self.assertNotIsInstance(node.targets[0], (ast.Tuple, ast.List), where)
 
     def test_imports_come_from_where_the_name_is_made_and_never_in_a_ring(self):
         drawn = {}
