@@ -5,105 +5,78 @@ fence gets farther than those that go by far corners alone, straight along a doo
 door to a gap, back to another door of the same row, and on down along it; or over likewise, in a column.
 """
 
-from oneleash.fields import LEVEL, UPRIGHT, pair_at_corner, pair_in_door
+from oneleash.fields import LEVEL, UPRIGHT, begins_fence, ends_fence, pair_at_corner, pair_in_door
 from oneleash.roots import root_between, root_order
+from oneleash.seeking import seek
 
 
-def begins_fence(corner, last, way):
-    return corner[1] == last[1] or (way == "on" and corner[0] == 0)
-
-
-def ends_fence(corner, last, way):
-    return corner[1] == 0 or (way == "on" and corner[0] == last[0])
-
-
-def gap_between(doors, low_door, high_door):
-    # Both are beyond the leash where the part within it of the one door ends before that of the other begins.
-    if doors[low_door] is None or doors[high_door] is None:
+def gap_between(field, low_door, high_door):
+    # Both are beyond the leash where the part within it of the one door ends before that of the other begins; with
+    # room 1 also where it ends just there.
+    low = field.doors[low_door]
+    high = field.doors[high_door]
+    if low is None or high is None or root_order(low[1], high[0]) >= field.room:
         return None
-    gap = (doors[low_door][1], doors[high_door][0])
-    return gap if root_order(gap[0], gap[1]) < 0 else None
+    return (low[1], high[0])
 
 
-def straight_step(corner):
-    # Steps are tuples: the corner one comes to, the doors of the bend, the gap in them.
-    return (corner, (), None)
-
-
-def steps_down(doors, corner):
+def steps_down(field, corner):
+    # Steps are tuples: the corner one comes to, and the bend, None or the first door, the second one, and the gap.
     i = corner[0]
     j = corner[1] - 1
     if j < 0:
         return []
     door = (UPRIGHT, i, j)
-    if doors[door] is None:
-        return [straight_step((i, j))]
+    if field.doors[door] is None:
+        return [((i, j), None)]
     steps = []
     for k in range(i):
         beside = (UPRIGHT, k, j)
-        gap = gap_between(doors, door, beside)
+        gap = gap_between(field, door, beside)
         if gap is not None:
-            steps.append(((k, j), (door, beside), gap))
+            steps.append(((k, j), (door, beside, gap)))
     return steps
 
 
-def steps_over(doors, corner, last):
+def steps_over(field, corner):
     i = corner[0]
     j = corner[1]
-    if i == last[0]:
+    if i == field.last[0]:
         return []
     door = (LEVEL, i, j)
-    if doors[door] is None:
-        return [straight_step((i + 1, j))]
+    if field.doors[door] is None:
+        return [((i + 1, j), None)]
     steps = []
-    for k in range(j + 1, last[1] + 1):
+    for k in range(j + 1, field.last[1] + 1):
         above = (LEVEL, i, k)
-        gap = gap_between(doors, above, door)
+        gap = gap_between(field, above, door)
         if gap is not None:
-            steps.append(((i + 1, k), (door, above), gap))
+            steps.append(((i + 1, k), (door, above, gap)))
     return steps
 
 
-def steps_back(far, corner):
-    return [straight_step(found) for found in far if found[0] <= corner[0] and found[1] >= corner[1]]
+def steps_back(field, corner):
+    return [(found, None) for found in field.far if found[0] <= corner[0] and found[1] >= corner[1]]
 
 
-def steps_from(doors, far, last, corner):
-    return steps_down(doors, corner) + steps_over(doors, corner, last) + steps_back(far, corner)
+def steps_from(field, corner):
+    return steps_down(field, corner) + steps_over(field, corner) + steps_back(field, corner)
 
 
-def pairs_of_bend(doors, gap):
-    if gap is None:
+def pairs_of_bend(bend):
+    if bend is None:
         return []
+    gap = bend[2]
     part = root_between(gap[0], gap[1])
-    return [pair_in_door(door, part) for door in doors]
+    return [pair_in_door(bend[0], part), pair_in_door(bend[1], part)]
 
 
-def pairs_to(came, corner):
-    # From the end to the begin, as each corner knows but the one that it was come to from.
+def fence_past(field, way):
+    # Of a field without a walk: there a fence is.
+    begins = [corner for corner in field.far if begins_fence(corner, field.last, way)]
+    row = seek(begins, lambda corner: steps_from(field, corner), lambda spot: ends_fence(spot, field.last, way))
     pairs = []
-    while corner is not None:
+    for corner, bend in row:
+        pairs.extend(pairs_of_bend(bend))
         pairs.append(pair_at_corner(corner))
-        ahead = came[corner]
-        bend = pairs_of_bend(ahead[1], ahead[2])
-        bend.reverse()
-        pairs.extend(bend)
-        corner = ahead[0]
-    pairs.reverse()
     return pairs
-
-
-def fence_past(doors, far, last, way):
-    # Of a field without a walk: there a fence is, so the row of corners doesn't run out ahead of one that ends it.
-    row = [corner for corner in far if begins_fence(corner, last, way)]
-    came = {}
-    for corner in row:
-        came[corner] = (None, (), None)
-    number = 0
-    while not ends_fence(row[number], last, way):
-        for step in steps_from(doors, far, last, row[number]):
-            if step[0] not in came:
-                came[step[0]] = (row[number], step[1], step[2])
-                row.append(step[0])
-        number += 1
-    return pairs_to(came, row[number])

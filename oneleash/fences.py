@@ -3,7 +3,7 @@
 from oneleash.errors import NoFence
 from oneleash.lines import last_of
 from oneleash.places import are_pairs, least_along, share_a_stretch, square_of
-from oneleash.ratios import less
+from oneleash.ratios import less, number_of_least
 from oneleash.ways import look_at_way
 
 
@@ -97,8 +97,4 @@ def fence_square(one, other, fence, way="on"):
     if not is_fence(one, other, fence, way):
         raise NoFence()
     squares = measured_squares(one, other, fence, way)
-    least = squares[0]
-    for square in squares:
-        if less(square, least):
-            least = square
-    return least
+    return squares[number_of_least(squares)]

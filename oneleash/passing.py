@@ -5,15 +5,15 @@ from oneleash.gates import BEGIN
 from oneleash.roots import root_between, root_order
 
 
-def doors_at_begin(doors, far, last, way):
+def doors_at_begin(field, way):
     # What is reached is kept by its door: (low, high, the door ahead).
     reached = {}
     if way == "on":
-        if (0, 0) not in far:
+        if (0, 0) not in field.far:
             reached[(UPRIGHT, 0, 0)] = (BEGIN, BEGIN, None)
         return reached
-    for j in range(last[1]):
-        part = doors[(UPRIGHT, 0, j)]
+    for j in range(field.last[1]):
+        part = field.doors[(UPRIGHT, 0, j)]
         if part is not None:
             reached[(UPRIGHT, 0, j)] = (part[0], part[1], None)
     return reached
@@ -23,8 +23,8 @@ def door_out(side, i, j):
     return (UPRIGHT, i + 1, j) if side == UPRIGHT else (LEVEL, i, j + 1)
 
 
-def pass_through(doors, reached, door, straight, turned):
-    part = doors[door]
+def pass_through(field, reached, door, straight, turned):
+    part = field.doors[door]
     if part is None:
         return
     if turned in reached:
@@ -39,12 +39,12 @@ def pass_through(doors, reached, door, straight, turned):
             reached[door] = (low, part[1], straight)
 
 
-def doors_reached(doors, far, last, way):
-    reached = doors_at_begin(doors, far, last, way)
-    for i in range(last[0]):
-        for j in range(last[1]):
+def doors_reached(field, way):
+    reached = doors_at_begin(field, way)
+    for i in range(field.last[0]):
+        for j in range(field.last[1]):
             for side in (UPRIGHT, LEVEL):
-                pass_through(doors, reached, door_out(side, i, j), (side, i, j), (1 - side, i, j))
+                pass_through(field, reached, door_out(side, i, j), (side, i, j), (1 - side, i, j))
     return reached
 
 
@@ -76,15 +76,15 @@ def pairs_to(reached, door):
     return pairs
 
 
-def walk_through(doors, far, last, way):
+def walk_through(field, way):
     # A walk, or None where there is none.
-    if way == "on" and last in far:
+    if way == "on" and field.last in field.far:
         return None
-    reached = doors_reached(doors, far, last, way)
-    ends = [door for door in doors_at_end(last, way) if door in reached]
+    reached = doors_reached(field, way)
+    ends = [door for door in doors_at_end(field.last, way) if door in reached]
     if len(ends) == 0:
         return None
     walk = pairs_to(reached, ends[0])
     if way == "on":
-        walk.append(pair_at_corner(last))
+        walk.append(pair_at_corner(field.last))
     return walk

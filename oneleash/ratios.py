@@ -51,6 +51,19 @@ def floor_of(a):
     return a[0] // a[1]
 
 
+def number_of_least(fractions):
+    # Of several the least number.
+    found = 0
+    for number, fraction in enumerate(fractions):
+        if less(fraction, fractions[found]):
+            found = number
+    return found
+
+
+def number_of_greatest(fractions):
+    return number_of_least([(-fraction[0], fraction[1]) for fraction in fractions])
+
+
 def is_ratio(thing):
     if not isinstance(thing, tuple) or len(thing) != 2:
         return False

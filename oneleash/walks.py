@@ -3,7 +3,7 @@
 from oneleash.errors import NoWalk
 from oneleash.lines import last_of
 from oneleash.places import are_pairs, share_a_stretch, square_of
-from oneleash.ratios import less
+from oneleash.ratios import less, number_of_greatest
 from oneleash.ways import look_at_way
 
 
@@ -54,9 +54,5 @@ def is_walk(one, other, thing, way="on"):
 def walk_square(one, other, walk, way="on"):
     if not is_walk(one, other, walk, way):
         raise NoWalk()
-    greatest = (0, 1)
-    for pair in walk:
-        square = square_of(one, pair[0], other, pair[1])
-        if less(greatest, square):
-            greatest = square
-    return greatest
+    squares = [square_of(one, pair[0], other, pair[1]) for pair in walk]
+    return squares[number_of_greatest(squares)]

@@ -1,124 +1,16 @@
-import copy
 import itertools
 import random
 import unittest
 from fractions import Fraction
 
-from samples import LINES, TOP, fraction, told
-from test_fences import goes_back, goes_down, goes_over, least_from, least_measured, right_fence
-from test_gates import things_no_square
-from test_walks import greatest_square, right_walk
+from checks import TINY, Checks, chance_line, doubled_line, split_line, square_apart, turning_squares, widened
+from samples import LINES, TOP, fraction
+from test_fences import goes_back, goes_down, goes_over
 
-from oneleash.errors import LeashError, NoSquare
-from oneleash.fences import fence_square, is_fence
 from oneleash.going import go_on, go_part
-from oneleash.walks import is_walk, walk_square
-
-ASK = {"on": go_on, "part": go_part}
-TINY = Fraction(1, 10 ** 100)
-
-
-def square_apart(a, b):
-    return Fraction((a[0] - b[0]) ** 2 + (a[1] - b[1]) ** 2)
-
-
-def turns_beside(corners, begin, end):
-    """Where corners begin to reach a stretch, and where two of them reach it at one place."""
-    turns = {least_from(corner, begin, end) for corner in corners}
-    for a, c in itertools.combinations(corners, 2):
-        slope = 2 * ((end[0] - begin[0]) * (c[0] - a[0]) + (end[1] - begin[1]) * (c[1] - a[1]))
-        if slope:
-            t = (square_apart(begin, c) - square_apart(begin, a)) / slope
-            if 0 <= t <= 1:
-                turns.add(sum((p + t * (q - p) - s) ** 2 for p, q, s in zip(begin, end, a)))
-    return turns
-
-
-def turning_squares(one, other):
-    """All squares at which something can turn, rising."""
-    turns = {square_apart(a, b) for a in one for b in other}
-    for line, corners in ((one, other), (other, one)):
-        for begin, end in zip(line, line[1:]):
-            turns |= turns_beside(corners, begin, end)
-    return sorted(turns)
-
-
-def chance_line(chance, most, reach):
-    return [(chance.randint(-reach, reach), chance.randint(-reach, reach)) for corner in range(chance.randint(1, most))]
-
-
-class Checks(unittest.TestCase):
-    def check_form(self, answer):
-        self.assertIs(type(answer), tuple)
-        self.assertEqual(len(answer), 2)
-        word, pairs = answer
-        self.assertIn(word, ("walk", "fence"))
-        self.assertIs(type(pairs), list)
-        self.assertTrue(1 <= len(pairs) <= 200)
-        for step in pairs:
-            self.assertEqual([type(step), len(step)], [tuple, 2])
-            for place in step:
-                self.assertEqual([type(place), len(place)], [tuple, 2])
-                self.assertEqual([type(number) for number in place], [int, int])
-                self.assertLess(max(abs(number) for number in place), 10 ** 1000)
-
-    def ask(self, one, other, square, way):
-        """The word, the pairs and their square; that it is what it is called is looked at by the words, too."""
-        square = Fraction(square)
-        answer = ASK[way](one, other, told(square))
-        self.check_form(answer)
-        word, pairs = answer
-        shown = (one, other, square, way, answer)
-        if word == "walk":
-            self.assertIs(is_walk(one, other, pairs, way), True, shown)
-            self.assertIs(right_walk(one, other, pairs, way), True, shown)
-            found = walk_square(one, other, pairs, way)
-            self.assertEqual(found, greatest_square(one, other, pairs), shown)
-            self.assertLessEqual(fraction(found), square, shown)
-        else:
-            self.assertIs(is_fence(one, other, pairs, way), True, shown)
-            self.assertIs(right_fence(one, other, pairs, way), True, shown)
-            found = fence_square(one, other, pairs, way)
-            self.assertEqual(found, least_measured(one, other, pairs, way), shown)
-            self.assertGreater(fraction(found), square, shown)
-        return word, pairs, fraction(found)
-
-    def word(self, one, other, square, way):
-        return self.ask(one, other, square, way)[0]
-
-    def check_turn(self, one, other, turn, way):
-        """It turns from fence to walk just at that square."""
-        turn = Fraction(turn)
-        word, pairs, found = self.ask(one, other, turn, way)
-        self.assertEqual((word, found), ("walk", turn), (one, other, way))
-        for more in (TINY, Fraction(1, 1000), Fraction(1), turn, Fraction(10 ** 109)):
-            self.assertEqual(self.word(one, other, turn + more, way), "walk", (one, other, way))
-        for bit in (TINY, Fraction(1, 1000), turn / 2, turn):
-            if bit and turn - bit >= 0:
-                word, pairs, found = self.ask(one, other, turn - bit, way)
-                self.assertEqual(word, "fence", (one, other, way))
-                self.assertLessEqual(found, turn)
-
-    def turn_of(self, one, other, way):
-        """The square at which it turns, sought among all at which it can."""
-        turns = turning_squares(one, other)
-        low, high = -1, len(turns) - 1
-        while high - low > 1:
-            number = (low + high) // 2
-            if self.word(one, other, turns[number], way) == "walk":
-                high = number
-            else:
-                low = number
-        return turns[high]
 
 
 class TurnsByHand(Checks):
-    def check_all_about(self, one, other, turn, way):
-        self.check_turn(one, other, turn, way)
-        self.check_turn(one[::-1], other[::-1], turn, way)
-        if way == "on":
-            self.check_turn(other, one, turn, way)
-
     def test_lines_of_one_corner_each(self):
         for way in ("on", "part"):
             self.check_all_about([(0, 0)], [(3, 4)], 25, way)
@@ -309,14 +201,8 @@ class Squares(Checks):
         self.assertIn(((1, 1), (3, 7)), pairs)
 
     def test_what_is_no_square(self):
-        for thing in things_no_square():
-            with self.subTest(thing=repr(thing)):
-                for ask in (go_on, go_part):
-                    for one, other in ((LINES[4], LINES[7]), (LINES[0], LINES[0]), (LINES[0], LINES[4])):
-                        with self.assertRaises(NoSquare):
-                            ask(one, other, thing)
-        with self.assertRaises(LeashError):
-            go_on(LINES[4], LINES[7], (-1, 1))
+        self.check_no_square(go_on)
+        self.check_no_square(go_part)
 
 
 class Fences(Checks):
@@ -384,14 +270,8 @@ class SameWords(Checks):
 
     def test_a_corner_put_in_on_a_stretch(self):
         for chance, one, other, square in self.some(107, 60):
-            # With all numbers doubled there is a corner in the middle of each stretch.
-            wide = [[(2 * x, 2 * y) for x, y in line] for line in (one, other)]
-            split = []
-            for line in wide:
-                number = chance.randrange(len(line))
-                begin, end = line[number], line[min(number + 1, len(line) - 1)]
-                middle = ((begin[0] + end[0]) // 2, (begin[1] + end[1]) // 2)
-                split.append(line[:number + 1] + [middle] + line[number + 1:])
+            wide = [widened(line) for line in (one, other)]
+            split = [split_line(chance, line) for line in wide]
             for way in ("on", "part"):
                 word = self.word(one, other, square, way)
                 self.assertEqual(self.word(*wide, 4 * square, way), word)
@@ -400,10 +280,7 @@ class SameWords(Checks):
 
     def test_a_corner_doubled(self):
         for chance, one, other, square in self.some(109, 60):
-            doubled = []
-            for line in (one, other):
-                number = chance.randrange(len(line))
-                doubled.append(line[:number + 1] + line[number:])
+            doubled = [doubled_line(chance, line) for line in (one, other)]
             for way in ("on", "part"):
                 word = self.word(one, other, square, way)
                 self.assertEqual(self.word(doubled[0], other, square, way), word)
@@ -420,39 +297,9 @@ class SameWords(Checks):
 
 
 class StaysAsItWas(Checks):
-    def test_the_same_answer_again_and_nothing_changed(self):
-        chance = random.Random(127)
-        for step in range(40):
-            one, other = chance_line(chance, 6, 6), chance_line(chance, 6, 6)
-            square = told(Fraction(chance.randint(0, 150), chance.randint(1, 3)))
-            kept = copy.deepcopy((one, other, square))
-            for ask in (go_on, go_part):
-                first = ask(one, other, square)
-                with self.assertRaises(NoSquare):
-                    ask(one, other, (-1, 1))
-                self.assertEqual((one, other, square), kept)
-                self.assertEqual(ask(one, other, square), first)
-
-    def test_what_is_told_is_the_askers_own(self):
-        for square in ((0, 1), (30, 1), (1000, 1)):
-            for one, other in ((LINES[4], LINES[7]), (LINES[0], LINES[4]), (LINES[0], LINES[0])):
-                for ask in (go_on, go_part):
-                    first, second = ask(one, other, square), ask(one, other, square)
-                    self.assertIsNot(first[1], second[1])
-                    kept = copy.deepcopy(first)
-                    second[1].clear()
-                    self.assertEqual(first, kept)
-                    first[1].append(None)
-                    self.assertEqual(ask(one, other, square), kept)
-
-    def test_lines_that_are_changed_later_are_not_kept(self):
-        one, other = [(0, 0), (10, 0)], [(0, 3), (10, 4)]
-        word, pairs = go_on(one, other, (16, 1))
-        kept = copy.deepcopy(pairs)
-        one.clear()
-        other.append((5, 5))
-        self.assertEqual((word, pairs), ("walk", kept))
-        self.assertEqual(go_on([(0, 0)], other, (16, 1))[0], "fence")
+    def test_the_same_answer_the_askers_own_and_nothing_changed(self):
+        self.check_goes(go_on)
+        self.check_goes(go_part)
 
 
 if __name__ == "__main__":

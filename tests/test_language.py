@@ -59,6 +59,15 @@ def walked_on_the_spot(tree):
             yield from node.args if called_name(node) == "zip" else node.args[:1]
 
 
+def own_methods_and_values(tree):
+    """The names of methods, and of the values that objects are given when they are made."""
+    for node in ast.walk(tree):
+        if isinstance(node, ast.ClassDef):
+            yield from [method.name for method in node.body if isinstance(method, ast.FunctionDef)]
+        if isinstance(node, ast.Attribute) and isinstance(node.ctx, ast.Store):
+            yield node.attr
+
+
 def imported_names(tree):
     return [alias.name for node in tree.body if isinstance(node, ast.ImportFrom) for alias in node.names]
 
@@ -122,10 +131,17 @@ class Language(unittest.TestCase):
             self.assertEqual(len(names), len(set(names)))
 
     def test_names(self):
+        own = set()
+        for path, text in self.each():
+            own |= set(own_methods_and_values(ast.parse(text)))
+        for kind in (str, int, list, dict, set, tuple, bytes, bool):
+            self.assertEqual([name for name in own if name != "__init__" and hasattr(kind, name)], [])
         for path, text in self.each():
             tree = ast.parse(text)
             for name in bound_names(tree):
-                self.assertTrue(PLAIN_NAME.match(name) or name == "__init__", name)
+                if name == "__init__":
+                    continue
+                self.assertTrue(PLAIN_NAME.match(name), name)
                 self.assertFalse(hasattr(builtins, name), name)
                 self.assertNotIn(name, NAMES_LEFT_OUT)
                 self.assertNotIn(name, imported_names(tree))
@@ -134,7 +150,7 @@ class Language(unittest.TestCase):
                 if isinstance(node, ast.Name):
                     self.assertIn(node.id, known)
                 if isinstance(node, ast.Attribute):
-                    self.assertIn(node.attr, OWN_METHODS)
+                    self.assertIn(node.attr, OWN_METHODS | own)
 
     def test_what_is_walked_at_once_is_not_kept(self):
         for path, text in self.each():
