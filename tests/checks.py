@@ -188,7 +188,7 @@ class Checks(unittest.TestCase):
         kept = copy.deepcopy([part for part in given if isinstance(part, list)])
         with self.assertRaises(LeashError) as caught:
             ask(*given)
-        self.assertIs(type(caught.exception), error, given)
+        self.assertIs(type(caught.exception), error, repr(given)[:1000])
         self.assertEqual([part for part in given if isinstance(part, list)], kept)
 
     def check_no_square(self, ask):
