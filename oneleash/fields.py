@@ -8,9 +8,10 @@ corners' numbers.
 With room 0 what is just a leash away is within the leash, with room 1 it is beyond.
 """
 
-from oneleash.gates import leash_order, part_within
+from oneleash.gates import BEGIN, END, leash_order, part_within
 from oneleash.lines import last_of
 from oneleash.ratios import plus
+from oneleash.roots import root_between, root_order
 
 UPRIGHT = 0
 LEVEL = 1
@@ -63,6 +64,15 @@ def ends_fence(corner, last, way):
 
 def pair_at_corner(corner):
     return ((corner[0], 1), (corner[1], 1))
+
+
+def part_from(low, high):
+    # The ends of a stretch have the fewest figures, so they go ahead of what lies between.
+    if root_order(low, BEGIN) == 0:
+        return (0, 1)
+    if root_order(high, END) == 0:
+        return (1, 1)
+    return root_between(low, high)
 
 
 def pair_in_door(door, part):

@@ -4,9 +4,9 @@ Within a cell of the field what is within the leash hangs together, so a walk is
 them; and where there is no such row, a row of shut doors parts the first cell from the last one.
 """
 
-from oneleash.fields import LEVEL, UPRIGHT, Field, begins_fence, ends_fence, pair_at_corner, pair_in_door, pairs_on
+from oneleash.fields import LEVEL, UPRIGHT, Field, begins_fence, ends_fence
+from oneleash.fields import pair_at_corner, pair_in_door, pairs_on, part_from
 from oneleash.gates import look_at_square
-from oneleash.roots import root_between
 from oneleash.seeking import seek
 
 
@@ -25,7 +25,7 @@ def steps_through(field, cell):
 
 def pair_within(field, door):
     part = field.doors[door]
-    return pair_in_door(door, root_between(part[0], part[1]))
+    return pair_in_door(door, part_from(part[0], part[1]))
 
 
 def free_walk(field):

@@ -1,8 +1,8 @@
 """Walks of the ways "on" and "part", sought from door to door through the field."""
 
-from oneleash.fields import LEVEL, UPRIGHT, pair_at_corner, pair_in_door
+from oneleash.fields import LEVEL, UPRIGHT, pair_at_corner, pair_in_door, part_from
 from oneleash.gates import BEGIN
-from oneleash.roots import root_between, root_order
+from oneleash.roots import root_order
 
 
 def doors_at_begin(field, way):
@@ -68,7 +68,7 @@ def pairs_to(reached, door):
         low = reached[door][0]
         high = reached[door][1]
         if behind is None or behind[0] != door[0] or not may_keep(part, high):
-            part = root_between(low, high)
+            part = part_from(low, high)
         pairs.append(pair_in_door(door, part))
         behind = door
         door = reached[door][2]

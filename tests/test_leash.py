@@ -132,6 +132,27 @@ class Go(Checks):
                 self.assertEqual(go(one, other, (10 ** 110 - 1, 1), way)[0], "walk")
                 self.assertEqual(go(one, one, (0, 1), way)[0], "walk")
 
+    def test_squares_of_a_thousand_figures(self):
+        chance = random.Random(317)
+        for step in range(10):
+            one, other = chance_line(chance, 4, TOP), chance_line(chance, 4, TOP)
+            for turn in chance.choices(turning_squares(one, other), k=3):
+                bottom = chance.randint(10 ** 960, 10 ** 970)
+                top = turn.numerator * bottom // turn.denominator
+                for way in WAYS:
+                    self.ask(one, other, Fraction(top + 1, bottom), way)
+                    self.ask(one, other, Fraction(top, bottom), way)
+
+    def test_where_but_a_bit_of_a_stretch_is_within_the_leash(self):
+        # A bit above the turn it lies at the end of the stretch, or at its begin.
+        level, bent = [(-TOP, 0), (0, 0)], [(-TOP, 0), (TOP, 4), (0, 0)]
+        square = TOP * TOP + 16 + Fraction(1, 10 ** 976)
+        self.assertEqual(len(str(square.numerator)), 1000)
+        for one, other in ((level, bent), (bent, level)):
+            for way in ("on", "free"):
+                self.assertEqual(self.word(one, other, square, way), "walk")
+                self.assertEqual(self.word(one[::-1], other[::-1], square, way), "walk")
+
     def test_what_is_no_way_goes_ahead_of_what_is_no_square(self):
         for thing in things_no_way():
             for square in ((1, 1), (-1, 1), None, thing):
